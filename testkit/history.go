@@ -19,7 +19,9 @@ type Wish struct {
 const (
 	fresh    = iota // from what has committed, and the transaction's own deeds
 	snapshot        // from what had committed at its begin, likewise
+	stale           // from what had committed at some time ahead of its begin, likewise
 	dirty           // from whatever any one did
+	ways
 )
 
 // A teller is a transaction that is being told.
@@ -39,6 +41,7 @@ type maker struct {
 	way     int
 	h       api.History
 	world   World
+	past    []World // what had committed, from the beginning on
 	threads []*teller
 	ids     []int
 	next    int // the next value that is unlike all others
@@ -46,12 +49,13 @@ type maker struct {
 
 // History is a well-formed history whose answers are often right ones.
 func History(d *Dice, wish Wish) api.History {
-	m := &maker{d: d, wish: wish, way: d.Roll(3), threads: make([]*teller, wish.Threads), next: 1}
+	m := &maker{d: d, wish: wish, way: d.Roll(ways), threads: make([]*teller, wish.Threads), next: 1}
 	m.h.Objects = slices.Clone(wish.Objects)
 	if len(m.h.Objects) == 0 {
 		m.h.Objects = m.objects()
 	}
 	m.world = NewWorld(m.h.Objects)
+	m.past = []World{m.world.Copy()}
 	for range d.Roll(wish.Txs + 1) {
 		m.ids = append(m.ids, m.newID())
 	}
@@ -124,6 +128,9 @@ func (m *maker) begin(thread int) {
 		return
 	}
 	t := &teller{id: m.ids[0], stage: api.EBegin, seen: m.world.Copy(), calls: m.d.Roll(6)}
+	if m.way == stale {
+		t.seen = Pick(m.d, m.past).Copy()
+	}
 	m.ids = m.ids[1:]
 	m.threads[thread] = t
 	m.tell(api.Event{Kind: api.EBegin, Tx: t.id, Thread: thread})
@@ -184,7 +191,7 @@ func (m *maker) work(t *teller, deed api.Deed) (int, int) {
 	w := m.world
 	if m.way != dirty {
 		w = m.world.Copy()
-		if m.way == snapshot {
+		if m.way != fresh {
 			w = t.seen.Copy()
 		}
 		for _, d := range t.deeds {
@@ -220,6 +227,7 @@ func (m *maker) end(thread int, t *teller, kind int) {
 		for _, d := range t.deeds {
 			m.world.Do(d.Obj, d.Op, d.Key, d.Val)
 		}
+		m.past = append(m.past, m.world.Copy())
 	}
 	m.threads[thread] = nil
 	m.tell(api.Event{Kind: kind, Tx: t.id})
