@@ -70,3 +70,34 @@ func part(d *Dice, objects []api.Object) api.Event {
 	}
 	return e
 }
+
+// Program is a program of an engine, of at most so many transactions a thread.
+func Program(d *Dice, most int) api.Program {
+	var p api.Program
+	for range 1 + d.Roll(3) {
+		p.Cells = append(p.Cells, d.Roll(4)-1)
+	}
+	for range 1 + d.Roll(api.MaxLines) {
+		var thread [][]api.Act
+		for range d.Roll(most + 1) {
+			thread = append(thread, acts(d, len(p.Cells)))
+		}
+		p.Threads = append(p.Threads, thread)
+	}
+	return p
+}
+
+func acts(d *Dice, cells int) []api.Act {
+	var list []api.Act
+	for range 1 + d.Roll(4) {
+		a := api.Act{Kind: 1 + d.Roll(3), Cell: d.Roll(cells)}
+		if a.Kind != api.ARead {
+			a.Val = d.Roll(5) - 1
+		}
+		list = append(list, a)
+	}
+	if d.Often(15) {
+		list = append(list, api.Act{Kind: api.ACancel})
+	}
+	return list
+}
