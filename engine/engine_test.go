@@ -8,6 +8,7 @@ import (
 	"umpire/api"
 	"umpire/clock"
 	"umpire/hist"
+	"umpire/latch"
 	"umpire/level"
 	"umpire/prog"
 	"umpire/shape"
@@ -44,6 +45,10 @@ func engines() map[string]engine {
 			m, err := clock.New(p)
 			return opened(m, err, m == nil)
 		}, clock.Run, clock.Full},
+		"latch": {api.LOpaque, func(p api.Program) (machine, error) {
+			m, err := latch.New(p)
+			return opened(m, err, m == nil)
+		}, latch.Run, latch.Full},
 	}
 }
 
