@@ -9,6 +9,7 @@ import (
 	"umpire/clock"
 	"umpire/hist"
 	"umpire/latch"
+	"umpire/late"
 	"umpire/level"
 	"umpire/prog"
 	"umpire/shape"
@@ -49,6 +50,10 @@ func engines() map[string]engine {
 			m, err := latch.New(p)
 			return opened(m, err, m == nil)
 		}, latch.Run, latch.Full},
+		"late": {api.LStrict, func(p api.Program) (machine, error) {
+			m, err := late.New(p)
+			return opened(m, err, m == nil)
+		}, late.Run, late.Full},
 	}
 }
 
