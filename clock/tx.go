@@ -7,7 +7,7 @@ import (
 
 // A tx is a transaction that has begun.
 type tx struct {
-	m       *Machine
+	b       *board
 	id      int
 	started int // its reading time
 	ended   int // its writing time
@@ -16,14 +16,15 @@ type tx struct {
 	kept    [api.MaxCells]int // what stands in the cells that are written, once it commits
 }
 
-func (m *Machine) begin(id int) engine.Tx { return &tx{m: m, id: id, started: m.clock} }
+// Begin is a transaction that begins.
+func (b *board) Begin(id int) engine.Tx { return &tx{b: b, id: id, started: b.clock} }
 
 // Read is what is kept, or what the cell has, if nobody has written it since the begin, or is about to.
 func (t *tx) Read(i int) (int, bool) {
 	if t.written[i] {
 		return t.kept[i], true
 	}
-	c := t.m.cells[i]
+	c := t.b.cells[i]
 	if c.owner != nobody || c.version > t.started {
 		return 0, false
 	}
@@ -50,37 +51,37 @@ func (t *tx) Settle() []func() bool {
 
 // take makes the transaction a cell's owner, if there is none.
 func (t *tx) take(i int) bool {
-	if t.m.cells[i].owner != nobody {
+	if t.b.cells[i].owner != nobody {
 		return false
 	}
-	t.m.cells[i].owner = t.id
+	t.b.cells[i].owner = t.id
 	return true
 }
 
 // tick moves the clock.
 func (t *tx) tick() bool {
-	t.m.clock++
-	t.ended = t.m.clock
+	t.b.clock++
+	t.ended = t.b.clock
 	return true
 }
 
 // stands tells whether a cell is still as it was read.
 func (t *tx) stands(i int) bool {
-	c := t.m.cells[i]
+	c := t.b.cells[i]
 	return (c.owner == nobody || c.owner == t.id) && c.version <= t.started
 }
 
 // put writes what was kept, and lets go of the cell.
 func (t *tx) put(i int) bool {
-	t.m.cells[i] = cell{value: t.kept[i], version: t.ended, owner: nobody}
+	t.b.cells[i] = cell{value: t.kept[i], version: t.ended, owner: nobody}
 	return true
 }
 
 // Abort lets go of all cells that the transaction owns.
 func (t *tx) Abort() {
-	for i := range t.m.cells {
-		if t.m.cells[i].owner == t.id {
-			t.m.cells[i].owner = nobody
+	for i := range t.b.cells {
+		if t.b.cells[i].owner == t.id {
+			t.b.cells[i].owner = nobody
 		}
 	}
 }

@@ -21,24 +21,32 @@ type Tx interface {
 	Abort()
 }
 
+// Board is the cells of an engine, and whatever stands beside them.
+type Board interface {
+	// Begin is asked at each begin of a transaction, with its number.
+	Begin(id int) Tx
+	// Values is what the cells have now.
+	Values() []int
+}
+
 // A step does something in a thread, and leaves behind what its next step does.
 type step func() step
 
 // Machine lets the threads of a program do their steps.
 type Machine struct {
-	cells []int // what they begin with
+	first []int // what the cells begin with
 	walk  *prog.Walk
-	begin func(id int) Tx
+	board Board
 	next  []step // of each thread
 }
 
-// New is a machine in which nothing has happened; begin is asked at each begin of a transaction.
-func New(p api.Program, begin func(id int) Tx) (*Machine, error) {
+// New is a machine in which nothing has happened, with the program's cells on the board.
+func New(p api.Program, board Board) (*Machine, error) {
 	walk, err := prog.Start(p)
 	if err != nil {
 		return nil, err
 	}
-	m := &Machine{cells: slices.Clone(p.Cells), walk: walk, begin: begin}
+	m := &Machine{first: slices.Clone(p.Cells), walk: walk, board: board}
 	for thread := range p.Threads {
 		m.next = append(m.next, m.idle(thread))
 	}
@@ -64,37 +72,61 @@ func (m *Machine) Done() bool {
 	return true
 }
 
+// Cells is the values of the cells as they are.
+func (m *Machine) Cells() []int { return m.board.Values() }
+
 // History is a register for each cell, and what has happened up to now.
 func (m *Machine) History() api.History {
 	h := api.History{Events: m.walk.Events()}
-	for _, c := range m.cells {
+	for _, c := range m.first {
 		h.Objects = append(h.Objects, api.Object{Kind: api.ORegister, Init: c})
 	}
 	return h
 }
 
-// Run is the history behind the steps of a schedule.
-func (m *Machine) Run(schedule []int) (api.History, error) {
-	if len(schedule) > api.MaxSteps {
-		return api.History{}, api.ErrMany
-	}
-	for _, thread := range schedule {
-		m.Step(thread)
+// A Stepper lets threads do their steps.
+type Stepper interface {
+	Step(thread int) bool
+	Done() bool
+	History() api.History
+}
+
+// Run is the history of a new machine behind the steps of a schedule.
+func Run[M Stepper](open func(p api.Program) (M, error), p api.Program, schedule []int) (api.History, error) {
+	m, err := stepped(open, p, schedule)
+	if err != nil {
+		return api.History{}, err
 	}
 	return m.History(), nil
 }
 
-// Full is the history behind the steps of a schedule, and of all threads by turns until all is done.
-func (m *Machine) Full(schedule []int) (api.History, error) {
-	if _, err := m.Run(schedule); err != nil {
+// Full is the history of a new machine behind the steps of a schedule, and of all threads by turns until all is done.
+func Full[M Stepper](open func(p api.Program) (M, error), p api.Program, schedule []int) (api.History, error) {
+	m, err := stepped(open, p, schedule)
+	if err != nil {
 		return api.History{}, err
 	}
 	for !m.Done() {
-		for thread := range m.next {
+		for thread := range p.Threads {
 			m.Step(thread)
 		}
 	}
 	return m.History(), nil
+}
+
+// stepped is a new machine behind the steps of a schedule.
+func stepped[M Stepper](open func(p api.Program) (M, error), p api.Program, schedule []int) (M, error) {
+	m, err := open(p)
+	if err == nil && len(schedule) > api.MaxSteps {
+		err = api.ErrMany
+	}
+	if err != nil {
+		return m, err
+	}
+	for _, thread := range schedule {
+		m.Step(thread)
+	}
+	return m, nil
 }
 
 // Each is f of each cell of a set, rising, as steps of Settle.
@@ -112,7 +144,7 @@ func Each(set [api.MaxCells]bool, f func(cell int) bool) []func() bool {
 func (m *Machine) idle(thread int) step {
 	return func() step {
 		e, _ := m.walk.Next(thread)
-		return m.ask(thread, m.begin(e.Tx))
+		return m.ask(thread, m.board.Begin(e.Tx))
 	}
 }
 

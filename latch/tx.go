@@ -7,18 +7,19 @@ import (
 
 // A tx is a transaction that has begun.
 type tx struct {
-	m       *Machine
+	b       *board
 	id      int
 	owned   [api.MaxCells]bool
 	written [api.MaxCells]bool
 	ahead   [api.MaxCells]int // what stood in the cells that are written, ahead of the first write
 }
 
-func (m *Machine) begin(id int) engine.Tx { return &tx{m: m, id: id} }
+// Begin is a transaction that begins.
+func (b *board) Begin(id int) engine.Tx { return &tx{b: b, id: id} }
 
 // own makes the transaction a cell's owner, if there is no other one.
 func (t *tx) own(i int) bool {
-	c := &t.m.cells[i]
+	c := &t.b.cells[i]
 	if c.owner != nobody && c.owner != t.id {
 		return false
 	}
@@ -32,7 +33,7 @@ func (t *tx) Read(i int) (int, bool) {
 	if !t.own(i) {
 		return 0, false
 	}
-	return t.m.cells[i].value, true
+	return t.b.cells[i].value, true
 }
 
 // Write lets the cell have the value at once.
@@ -41,28 +42,28 @@ func (t *tx) Write(i, val int) bool {
 		return false
 	}
 	if !t.written[i] {
-		t.written[i], t.ahead[i] = true, t.m.cells[i].value
+		t.written[i], t.ahead[i] = true, t.b.cells[i].value
 	}
-	t.m.cells[i].value = val
+	t.b.cells[i].value = val
 	return true
 }
 
 // Settle lets go of all cells that are owned.
 func (t *tx) Settle() []func() bool {
 	return engine.Each(t.owned, func(i int) bool {
-		t.m.cells[i].owner = nobody
+		t.b.cells[i].owner = nobody
 		return true
 	})
 }
 
 // Abort puts back what stood in the cells, and lets go of them.
 func (t *tx) Abort() {
-	for i := range t.m.cells {
+	for i := range t.b.cells {
 		if t.written[i] {
-			t.m.cells[i].value = t.ahead[i]
+			t.b.cells[i].value = t.ahead[i]
 		}
 		if t.owned[i] {
-			t.m.cells[i].owner = nobody
+			t.b.cells[i].owner = nobody
 		}
 	}
 }

@@ -7,21 +7,22 @@ import (
 
 // A tx is a transaction that has begun.
 type tx struct {
-	m       *Machine
+	b       *board
 	read    [api.MaxCells]bool
 	version [api.MaxCells]int // of the cells that were read, at the first read
 	written [api.MaxCells]bool
 	kept    [api.MaxCells]int // what stands in the cells that are written, once it commits
 }
 
-func (m *Machine) begin(int) engine.Tx { return &tx{m: m} }
+// Begin is a transaction that begins.
+func (b *board) Begin(int) engine.Tx { return &tx{b: b} }
 
 // Read is what is kept, or what the cell has, whatever was read ahead.
 func (t *tx) Read(i int) (int, bool) {
 	if t.written[i] {
 		return t.kept[i], true
 	}
-	c := t.m.cells[i]
+	c := t.b.cells[i]
 	if !t.read[i] {
 		t.read[i], t.version[i] = true, c.version
 	}
@@ -47,7 +48,7 @@ func (t *tx) Settle() []func() bool {
 
 // stands tells whether all cells still are as they were read.
 func (t *tx) stands() bool {
-	for i, c := range t.m.cells {
+	for i, c := range t.b.cells {
 		if t.read[i] && c.version != t.version[i] {
 			return false
 		}
@@ -57,9 +58,9 @@ func (t *tx) stands() bool {
 
 // put writes all that was kept.
 func (t *tx) put() {
-	for i, c := range t.m.cells {
+	for i, c := range t.b.cells {
 		if t.written[i] {
-			t.m.cells[i] = cell{value: t.kept[i], version: c.version + 1}
+			t.b.cells[i] = cell{value: t.kept[i], version: c.version + 1}
 		}
 	}
 }
