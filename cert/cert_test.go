@@ -113,6 +113,21 @@ func TestCheck(t *testing.T) {
 	}
 }
 
+// P13.1, P13.2: as many transactions as may be.
+func TestTwelve(t *testing.T) {
+	h := many(12)
+	var steps []api.Step
+	for i := range 12 {
+		steps = append(steps, commit(i+1))
+	}
+	if err := cert.Check(h, api.LFinal, steps); err != nil {
+		t.Errorf("Check = %v", err)
+	}
+	if err := cert.All(h, lists(h)); err != nil {
+		t.Errorf("All = %v", err)
+	}
+}
+
 // lists is for each prefix of a history the least order at LFinal.
 func lists(h api.History) [][]api.Step {
 	var all [][]api.Step

@@ -224,6 +224,20 @@ func TestGraphAndTaken(t *testing.T) {
 	}
 }
 
+// P15.4: a register that is not read is read by no version, be it 0.
+func TestTakenOfZero(t *testing.T) {
+	h := of(one(begin(1, 0)), read(1, 0, 5), write(1, 0, 0), one(just(api.ETry, 1), begin(2, 1)), read(2, 1, 0), commits(2))
+	h.Objects[0].Init = 5
+	for level := api.LSerial; level <= api.LFinal; level++ {
+		if ids, err := fast.Taken(h, level); err != nil || !slices.Equal(ids, []int{2}) {
+			t.Errorf("Taken at %d = %v, %v", level, ids, err)
+		}
+		if a, err := fast.Judge(h, level); err != nil || a.Kind != fast.Yes {
+			t.Errorf("Judge at %d = %+v, %v", level, a, err)
+		}
+	}
+}
+
 // P15.5
 func TestVersions(t *testing.T) {
 	chain := of(one(begin(4, 0)), read(4, 0, 0), write(4, 0, 1), write(4, 0, 5), commits(4), one(begin(2, 0)), read(2, 0, 5), write(2, 0, 2), commits(2))

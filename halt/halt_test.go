@@ -1,7 +1,9 @@
 package halt_test
 
 import (
+	"sync"
 	"testing"
+	"time"
 
 	"umpire/halt"
 )
@@ -20,4 +22,28 @@ func TestClosed(t *testing.T) {
 			t.Errorf("%s: Closed = %v", name, got)
 		}
 	}
+}
+
+// Somebody who sends has not closed.
+func TestClosedWhileOneSends(t *testing.T) {
+	done, quit := make(chan struct{}), make(chan struct{})
+	var group sync.WaitGroup
+	group.Go(func() {
+		for {
+			select {
+			case done <- struct{}{}:
+			case <-quit:
+				return
+			}
+		}
+	})
+	for range 200 {
+		<-done
+		time.Sleep(10 * time.Microsecond) // so that the sender waits again
+		if halt.Closed(done) {
+			t.Error("it is open, and Closed")
+		}
+	}
+	close(quit)
+	group.Wait()
 }

@@ -126,6 +126,15 @@ func TestJudgeFaults(t *testing.T) {
 	}
 }
 
+// P14.1: as many transactions as may be.
+func TestTwelve(t *testing.T) {
+	for l := api.LSerial; l <= api.LOpaque; l++ {
+		if v, err := level.Judge(many(12), l, api.MaxMemo); err != nil || !v.Yes {
+			t.Errorf("Judge at %d = %v, %v", l, v.Yes, err)
+		}
+	}
+}
+
 // P14.1: a prefix beyond the budget is an error, unless one ahead of it is a no.
 func TestBudgetOfPrefixes(t *testing.T) {
 	four := one(begin(3, 2), begin(4, 3), just(api.ETry, 3), just(api.ETry, 4))

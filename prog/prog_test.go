@@ -62,7 +62,7 @@ func TestValid(t *testing.T) {
 		"no thread": {Cells: []int{0}}, "five threads": {Cells: []int{0}, Threads: make([][][]api.Act, 5)}, "four transactions": {Cells: []int{0}, Threads: [][][]api.Act{{acts, acts, acts, acts}}}, "no act": alone(), "seven acts": alone(slices.Repeat(acts, 7)...), "the second one has no act": {Cells: []int{0}, Threads: [][][]api.Act{{acts}, {acts, {}}}},
 		"cancel ahead of a read": alone(cancel, read(0)), "two cancels": alone(cancel, cancel), "cancel of a cell": alone(api.Act{Kind: api.ACancel, Cell: 1}), "cancel with a value": alone(api.Act{Kind: api.ACancel, Val: 1}),
 		"AAdd of 1001": alone(add(0, 1001)), "AAdd of -1001": alone(add(0, -1001)), "AWrite of 1001": alone(write(0, 1001)), "AWrite of MinInt": alone(write(0, math.MinInt)), "a read with a value": alone(api.Act{Kind: api.ARead, Val: 1}),
-		"no such cell": alone(read(2)), "a cell below 0": alone(write(-1, 0)), "no cell far off": alone(add(math.MaxInt, 0)), "kind 0": alone(api.Act{}), "kind 5": alone(api.Act{Kind: 5}), "kind below 0": alone(api.Act{Kind: math.MinInt}),
+		"no such cell": alone(read(2)), "no such cell to write": alone(write(2, 0)), "no such cell to add to": alone(add(2, 0)), "a cell below 0 to read": alone(read(-1)), "a cell below 0": alone(write(-1, 0)), "no cell far off": alone(add(math.MaxInt, 0)), "kind 0": alone(api.Act{}), "kind 5": alone(api.Act{Kind: 5}), "kind below 0": alone(api.Act{Kind: math.MinInt}),
 	} {
 		if err := prog.Valid(p); err != api.ErrProg {
 			t.Errorf("%s: Valid = %v", name, err)

@@ -198,6 +198,32 @@ func TestFeedBesideAnError(t *testing.T) {
 	}
 }
 
+// P4.2: what Feed says of one event by itself, behind a begin of 1 and a call of it.
+func TestFeedFaults(t *testing.T) {
+	for name, c := range map[string]struct {
+		e    api.Event
+		want error
+	}{
+		"kind 0": {api.Event{}, api.ErrCode}, "no operation, not begun": {api.Event{Kind: api.ECall, Tx: 9, Obj: 5}, api.ErrCode}, "no answer": {api.Event{Kind: api.EReturn, Tx: 1}, api.ErrCode},
+		"number 0": {just(api.ETry, 0), api.ErrEvent}, "a field too many": {api.Event{Kind: api.ETry, Tx: 1, Val: 1}, api.ErrEvent}, "an object out of bounds": {api.Event{Kind: api.ECall, Tx: 1, Obj: 8, Op: api.OpRead}, api.ErrEvent},
+		"the object behind the last": {api.Event{Kind: api.ECall, Tx: 1, Obj: 1, Op: api.OpRead}, api.ErrObject}, "no such object, not begun, an operation of none": {api.Event{Kind: api.ECall, Tx: 9, Obj: 7, Op: api.OpDeq}, api.ErrObject},
+		"an operation of a queue": {api.Event{Kind: api.ECall, Tx: 1, Op: api.OpDeq}, api.ErrOp}, "an operation of a counter, not begun": {api.Event{Kind: api.ECall, Tx: 9, Op: api.OpGet}, api.ErrOp},
+		"begun, its thread is busy": {begin(1, 0), api.ErrTwice}, "begun, another thread": {begin(1, 3), api.ErrTwice}, "busy": {begin(2, 0), api.ErrThread}, "not begun": {val(2, 5), api.ErrTx}, "a read, not begun": {read(2), api.ErrTx}, "a call in a call": {read(1), api.ErrOrder}, "ok of a read": {ok(1), api.ErrAnswer},
+		"its answer": {val(1, 5), nil}, "an abort": {just(api.EAbort, 1), nil}, "another thread": {begin(2, 1), nil},
+	} {
+		a, _ := shape.New(five())
+		if a.Feed(begin(1, 0)) != nil || a.Feed(read(1)) != nil {
+			t.Fatal("the begin, or the call, is not taken")
+		}
+		if err := a.Feed(c.e); err != c.want || (a.Len() == 3) != (err == nil) {
+			t.Errorf("%s: Feed = %v, not %v", name, err, c.want)
+		}
+		if id, ok := a.Busy(0); c.e.Kind != api.EAbort && (id != 1 || !ok) || c.e.Kind == api.EAbort && (id != 0 || ok) {
+			t.Errorf("%s: Busy = %d, %v", name, id, ok)
+		}
+	}
+}
+
 // P4.2
 func TestFeedOfTooMany(t *testing.T) {
 	a, _ := shape.New(five())
