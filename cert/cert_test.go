@@ -194,11 +194,6 @@ func TestLine(t *testing.T) {
 			}
 		}
 	}
-	for line, steps := range map[string][]api.Step{"--5": {abort(-5)}, "-5 0": {commit(-5), commit(0)}, "-0": {abort(0)}, "-9223372036854775808": {commit(math.MinInt)}, "--9223372036854775808": {abort(math.MinInt)}} {
-		if got := cert.Line(steps); got != line {
-			t.Errorf("Line(%v) = %q", steps, got)
-		}
-	}
 	for _, line := range []string{"0", "1 0", "-0", "1 x", "x", "+1", "01", "--1", "1000000001", "-1000000001", "1 -2 #", "1\t2", "1,2", "-", "1 2 99999999999999999999"} {
 		if got, err := cert.Read(line); len(got) != 0 || err != api.ErrNumber {
 			t.Errorf("Read(%q) = %v, %v", line, got, err)

@@ -315,9 +315,6 @@ func TestWord(t *testing.T) {
 	if got := desk.Word(nil); got != "" {
 		t.Errorf("Word(nil) = %q", got)
 	}
-	if got := desk.Word(&api.At{Pos: 3}); got != "" {
-		t.Errorf("Word of a place without an error = %q", got)
-	}
 }
 
 // P23.4, P23.7

@@ -57,15 +57,6 @@ func TestPlay(t *testing.T) {
 	}
 }
 
-// P23.3: the lines of a block are counted as they stand.
-func TestLinesOfBlocks(t *testing.T) {
-	for script, want := range map[string]string{"history a\n\n# x\njump\nend\n": "fault 4: no such word", "program p\ncells 0\n\nthread 1\nend": "fault 4: too many words, or too few"} {
-		if got, err := desk.Play([]byte(script)); err != nil || !slices.Equal(got, []string{want}) {
-			t.Errorf("Play(%q) = %q, %v", script, got, err)
-		}
-	}
-}
-
 // P23.3
 func TestPlayFaults(t *testing.T) {
 	many := strings.Repeat("list\n", api.MaxScript)

@@ -249,7 +249,7 @@ func TestVersions(t *testing.T) {
 		all        bool
 	}{
 		"h": {sample(), api.LSerial, 0, []int{0, 1}, true}, "both": {withCommit2(), api.LSerial, 0, []int{0}, false}, "a chain": {chain, api.LFinal, 0, []int{0, 5, 2}, true}, "what nobody writes": {chain, api.LFinal, 1, []int{0}, true},
-		"one off the chain": {off, api.LStrict, 0, []int{0, 1}, false}, "the queue": {chain, api.LSerial, 2, []int{0}, true}, "an aborted one is no one": {of(one(begin(1, 0)), read(1, 0, 0), write(1, 0, 1), one(just(api.EAbort, 1))), api.LFinal, 0, []int{0}, true},
+		"one off the chain": {off, api.LStrict, 0, []int{0, 1}, false}, "an aborted one is no one": {of(one(begin(1, 0)), read(1, 0, 0), write(1, 0, 1), one(just(api.EAbort, 1))), api.LFinal, 0, []int{0}, true},
 	} {
 		if got, all, err := fast.Versions(c.h, c.level, c.obj); err != nil || all != c.all || !slices.Equal(got, c.want) {
 			t.Errorf("%s: Versions = %v, %v, %v", name, got, all, err)

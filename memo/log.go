@@ -1,9 +1,11 @@
 package memo
 
+import "umpire/index"
+
 // Log is values that are noted once; the zero one is empty.
 type Log[K comparable, V any] struct {
 	noted  int
-	values index[K, V]
+	values index.Index[K, V]
 }
 
 // Note notes a value, and tells whether there was none.
@@ -11,13 +13,13 @@ func (l *Log[K, V]) Note(k K, v V) bool {
 	if _, ok := l.Get(k); ok {
 		return false
 	}
-	l.values.put(k, v)
+	l.values.Put(k, v)
 	l.noted++
 	return true
 }
 
 // Get is the value that was noted.
-func (l *Log[K, V]) Get(k K) (V, bool) { return l.values.get(k) }
+func (l *Log[K, V]) Get(k K) (V, bool) { return l.values.Get(k) }
 
 // Len tells how many values were noted.
 func (l *Log[K, V]) Len() int { return l.noted }

@@ -236,25 +236,3 @@ func TestOnceWithin(t *testing.T) {
 		t.Errorf("f noted 5 and answered 6: %d, %d", got, v)
 	}
 }
-
-// P0.1: a key that can't be compared is none that panics.
-func TestKeysThatCompareWithNothing(t *testing.T) {
-	s := memo.New[any](2)
-	for range 3 {
-		s.Add([]int{1})
-		if _, ok := s.Place([]int{1}); ok || s.Has(map[int]int{}) {
-			t.Error("it has what can't be compared")
-		}
-	}
-	if s.Len()+s.Room() != 2 {
-		t.Errorf("Len %d, Room %d", s.Len(), s.Room())
-	}
-	var l memo.Log[any, int]
-	l.Note([]int{1}, 1)
-	if v, ok := l.Get([]int{1}); v != 0 || ok || memo.Once(&l, any([]int{2}), func() int { return 3 }) != 3 {
-		t.Error("a log of what can't be compared")
-	}
-	if !l.Note(math.Pi, 4) || l.Note(math.Pi, 5) {
-		t.Error("a log of what can")
-	}
-}

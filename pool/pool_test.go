@@ -139,10 +139,8 @@ func TestFirst(t *testing.T) {
 
 // P17.3
 func TestStop(t *testing.T) {
-	sent := make(chan struct{}, 3)
-	sent <- struct{}{}
 	for _, workers := range someWorkers {
-		for _, done := range []<-chan struct{}{nil, pool.Never(), sent} {
+		for _, done := range []<-chan struct{}{nil, pool.Never(), make(chan struct{}, 3)} {
 			if got, err := pool.Stop(done, workers, []int{1, 2}, func(i, x int) int { return x + 1 }); err != nil || !slices.Equal(got, []int{2, 3}) {
 				t.Errorf("%d workers: Stop = %v, %v", workers, got, err)
 			}
@@ -150,10 +148,9 @@ func TestStop(t *testing.T) {
 				t.Errorf("%d workers: Stop of nothing = %v, %v", workers, got, err)
 			}
 		}
-		behind := make(chan struct{}, 3)
-		behind <- struct{}{}
-		close(behind)
-		for _, done := range []<-chan struct{}{pool.Shut(), behind} {
+		closed := make(chan struct{}, 3)
+		close(closed)
+		for _, done := range []<-chan struct{}{pool.Shut(), closed} {
 			asked := atomic.Int32{}
 			if got, err := pool.Stop(done, workers, upTo(50), func(i, x int) int { return int(asked.Add(1)) }); err != api.ErrStop || len(got) != 0 || asked.Load() != 0 {
 				t.Errorf("%d workers: Stop of a closed channel = %v, %v, asked %d times", workers, got, err, asked.Load())

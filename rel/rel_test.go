@@ -106,13 +106,13 @@ func TestCircle(t *testing.T) {
 		}
 	}
 	long := rel.New[int]()
-	for i := range 1 << 16 {
+	for i := range 300 {
 		long.Add(i, i+1)
 	}
 	if long.Circle() {
 		t.Error("Circle of a long way")
 	}
-	if long.Add(1<<16, 0); !long.Circle() {
+	if long.Add(300, 0); !long.Circle() {
 		t.Error("no Circle of a long one")
 	}
 }
