@@ -11,10 +11,10 @@ func Bytes(e api.Event) ([]byte, error) {
 		return nil, err
 	}
 	b := word.Put(nil, e.Kind)
-	has, _ := fieldsOf(e.Kind)
-	for f := range fieldCount {
-		if has(e).has(f) {
-			b = word.Put(b, *f.in(&e))
+	parts, _ := partsOf(e.Kind)
+	for _, p := range parts {
+		if p.when(e) {
+			b = word.Put(b, *p.field.in(&e))
 		}
 	}
 	return b, nil
@@ -26,23 +26,23 @@ func From(b []byte) (api.Event, int, error) {
 	if err != nil {
 		return api.Event{}, 0, err
 	}
-	has, ok := fieldsOf(kind)
+	parts, ok := partsOf(kind)
 	if !ok {
 		return api.Event{}, 0, api.ErrCode
 	}
 	e := api.Event{Kind: kind}
-	for f := range fieldCount {
-		if !has(e).has(f) {
+	for _, p := range parts {
+		if !p.when(e) {
 			continue
 		}
 		n, more, err := word.Get(b[size:])
 		if err != nil {
 			return api.Event{}, 0, err
 		}
-		if f.none(n) {
+		if p.field.none(n) {
 			return api.Event{}, 0, api.ErrCode
 		}
-		*f.in(&e) = n
+		*p.field.in(&e) = n
 		size += more
 	}
 	if err := Valid(e); err != nil {

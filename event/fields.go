@@ -5,7 +5,7 @@ import (
 	"umpire/word"
 )
 
-// A field is one that an event may have beside its kind. They rise as they stand in a line.
+// A field is one that an event may have beside its kind.
 type field int
 
 const (
@@ -16,7 +16,6 @@ const (
 	fieldKey
 	fieldRet
 	fieldVal
-	fieldCount
 )
 
 // bounds is the least and the greatest number of each field that an event has.
@@ -86,46 +85,48 @@ func (f field) read(w string) (int, error) {
 	return n, nil
 }
 
-// fields is a set of fields, a bit each.
-type fields int
-
-// and is the set with the field in it, if it is to be.
-func (s fields) and(f field, yes bool) fields {
-	if yes {
-		return s | 1<<f
-	}
-	return s
+// A part is a field that events of a kind may have; when tells whether one of them has it.
+type part struct {
+	field field
+	when  func(e api.Event) bool
 }
 
-func (s fields) has(f field) bool { return s>>f&1 == 1 }
+func always(api.Event) bool { return true }
 
-// justTx is the fields of an event that only names a transaction.
-func justTx(api.Event) fields { return 1 << fieldTx }
+func ifKeyed(e api.Event) bool { return Keyed(e.Op) }
 
-func beginFields(api.Event) fields { return 1<<fieldTx | 1<<fieldThread }
+func ifValued(e api.Event) bool { return Valued(e.Op) }
 
-func callFields(e api.Event) fields {
-	all := fields(1<<fieldTx | 1<<fieldObj | 1<<fieldOp)
-	return all.and(fieldKey, Keyed(e.Op)).and(fieldVal, Valued(e.Op))
+func ifRVal(e api.Event) bool { return e.Ret == api.RVal }
+
+// justTx is the parts of an event that only names a transaction.
+func justTx() []part { return []part{{fieldTx, always}} }
+
+func beginParts() []part { return []part{{fieldTx, always}, {fieldThread, always}} }
+
+func callParts() []part {
+	return []part{{fieldTx, always}, {fieldObj, always}, {fieldOp, always}, {fieldKey, ifKeyed}, {fieldVal, ifValued}}
 }
 
-func returnFields(e api.Event) fields {
-	all := fields(1<<fieldTx | 1<<fieldRet)
-	return all.and(fieldVal, e.Ret == api.RVal)
+func returnParts() []part {
+	return []part{{fieldTx, always}, {fieldRet, always}, {fieldVal, ifRVal}}
 }
 
-// fieldsOf answers what tells the fields of an event of that kind. It asks the event
+// partsOf answers the parts of the events of that kind, in order. Each is to be asked of the event
 // itself, since what stands in a field ahead may say whether there is one behind.
-func fieldsOf(kind int) (func(api.Event) fields, bool) {
-	table := map[int]func(api.Event) fields{
-		api.EBegin:  beginFields,
-		api.ECall:   callFields,
-		api.EReturn: returnFields,
+func partsOf(kind int) ([]part, bool) {
+	table := map[int]func() []part{
+		api.EBegin:  beginParts,
+		api.ECall:   callParts,
+		api.EReturn: returnParts,
 		api.ETry:    justTx,
 		api.ECommit: justTx,
 		api.EAbort:  justTx,
 		api.ECancel: justTx,
 	}
-	has, ok := table[kind]
-	return has, ok
+	parts, ok := table[kind]
+	if !ok {
+		return nil, false
+	}
+	return parts(), true
 }

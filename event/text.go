@@ -14,10 +14,10 @@ func Line(e api.Event) (string, error) {
 		return "", err
 	}
 	words := []string{Word(Events, e.Kind)}
-	has, _ := fieldsOf(e.Kind)
-	for f := range fieldCount {
-		if has(e).has(f) {
-			words = append(words, f.write(*f.in(&e)))
+	parts, _ := partsOf(e.Kind)
+	for _, p := range parts {
+		if p.when(e) {
+			words = append(words, p.field.write(*p.field.in(&e)))
 		}
 	}
 	return word.Join(words...), nil
@@ -46,19 +46,19 @@ func Read(line string) (api.Event, error) {
 // readFields is the event of that kind whose fields the words tell, all of them.
 func readFields(kind int, words []string) (api.Event, error) {
 	e := api.Event{Kind: kind}
-	has, _ := fieldsOf(kind)
-	for f := range fieldCount {
-		if !has(e).has(f) {
+	parts, _ := partsOf(kind)
+	for _, p := range parts {
+		if !p.when(e) {
 			continue
 		}
 		if len(words) == 0 {
 			return e, api.ErrWords
 		}
-		n, err := f.read(words[0])
+		n, err := p.field.read(words[0])
 		if err != nil {
 			return e, err
 		}
-		*f.in(&e) = n
+		*p.field.in(&e) = n
 		words = words[1:]
 	}
 	if len(words) > 0 {
